@@ -1,6 +1,9 @@
 package interp
 
-import "debugger/api"
+import (
+	"debugger/api"
+	"debugger/arithmetic"
+)
 
 // What the language throws by itself.
 const (
@@ -30,7 +33,7 @@ func (r *run) value(e api.Expr) int {
 	case api.ExprNegate:
 		return -a
 	case api.ExprNot:
-		return truth(a == 0)
+		return arithmetic.Value(api.ExprEqual, a, 0)
 	}
 	return operate(e.Op, a, r.value(e.Args[1]))
 }
@@ -53,46 +56,11 @@ func (r *run) word(e api.Expr) *int {
 
 // operate returns the value of an operator with two operands.
 func operate(op, a, b int) int {
-	switch op {
-	case api.ExprAdd:
-		return a + b
-	case api.ExprSub:
-		return a - b
-	case api.ExprMul:
-		return a * b
-	case api.ExprDiv:
-		return a / divisor(b)
-	case api.ExprMod:
-		return a % divisor(b)
-	case api.ExprAnd:
-		return a & b
-	case api.ExprOr:
-		return a | b
-	case api.ExprXor:
-		return a ^ b
-	case api.ExprLess:
-		return truth(a < b)
-	case api.ExprLessEq:
-		return truth(a <= b)
-	case api.ExprEqual:
-		return truth(a == b)
-	case api.ExprNotEqual:
-		return truth(a != b)
+	if op < api.ExprAdd || op > api.ExprNotEqual {
+		panic(stop(api.ErrForm))
 	}
-	panic(stop(api.ErrForm))
-}
-
-// divisor returns a number by which one can divide.
-func divisor(b int) int {
-	if b == 0 {
+	if b == 0 && (op == api.ExprDiv || op == api.ExprMod) {
 		panic(badDivisor)
 	}
-	return b
-}
-
-func truth(b bool) int {
-	if b {
-		return 1
-	}
-	return 0
+	return arithmetic.Value(op, a, b)
 }

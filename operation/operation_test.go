@@ -1,0 +1,34 @@
+package operation
+
+import (
+	"fmt"
+	"testing"
+
+	"debugger/api"
+)
+
+func TestKinds(t *testing.T) {
+	want := map[int]string{api.OpConst: "defines", api.OpCopy: "defines A", api.OpLoad: "defines A", api.OpStore: "A B", api.OpPrint: "A"}
+	for kind := api.OpAdd; kind <= api.OpNotEqual; kind++ {
+		want[kind] = fmt.Sprintf("defines A B operator %d", kind-api.OpAdd+api.ExprAdd)
+	}
+	for kind := -1; kind <= api.OpBind+1; kind++ {
+		got := ""
+		add := func(is bool, text string) {
+			if is && got != "" {
+				got += " "
+			}
+			if is {
+				got += text
+			}
+		}
+		a, b := Uses(kind)
+		add(Defines(kind), "defines")
+		add(a, "A")
+		add(b, "B")
+		add(Binary(kind), fmt.Sprintf("operator %d", Operator(kind)))
+		if got != want[kind] {
+			t.Errorf("the kind %d: %q, not %q", kind, got, want[kind])
+		}
+	}
+}
