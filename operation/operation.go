@@ -22,3 +22,6 @@ func Uses(kind int) (a, b bool) {
 
 // Operator returns the operator of the source language that the operations of a binary kind compute.
 func Operator(kind int) int { return kind - api.OpAdd + api.ExprAdd }
+
+// Kind returns the kind of the operations that compute an operator with two operands; it is not binary if there is no such operator.
+func Kind(operator int) int { return operator - api.ExprAdd + api.OpAdd }

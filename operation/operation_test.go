@@ -32,3 +32,12 @@ func TestKinds(t *testing.T) {
 		}
 	}
 }
+
+func TestOperators(t *testing.T) {
+	for operator := -1; operator <= api.ExprNotEqual+1; operator++ {
+		kind, has := Kind(operator), operator >= api.ExprAdd && operator <= api.ExprNotEqual
+		if Binary(kind) != has || has && Operator(kind) != operator {
+			t.Errorf("the kind of the operator %d is %d", operator, kind)
+		}
+	}
+}
