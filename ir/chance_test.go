@@ -3,170 +3,17 @@ package ir
 import (
 	"math/rand/v2"
 	"reflect"
-	"slices"
 	"testing"
 
 	"debugger/api"
+	"debugger/modules"
 )
-
-// writer writes sound modules by chance.
-type writer struct {
-	*rand.Rand
-	m api.Module
-}
-
-// pick returns an element of a list.
-func pick[T any](w *writer, list []T) T { return list[w.IntN(len(list))] }
-
-// chanceModule returns a sound module, and a source whose variables go with it.
-func chanceModule(r *rand.Rand) (api.Source, api.Module) {
-	w := &writer{Rand: r}
-	s := api.Source{}
-	funcs := 1 + r.IntN(4)
-	for f := range funcs {
-		c := api.Code{Params: r.IntN(4), Contexts: []api.Context{{Parent: -1, Stmt: -1, Func: f}}}
-		for range r.IntN(4) {
-			c.Contexts = append(c.Contexts, api.Context{Parent: r.IntN(len(c.Contexts)), Stmt: r.IntN(10), Func: r.IntN(funcs)})
-		}
-		for range r.IntN(4) {
-			o := api.Object{Ctx: r.IntN(len(c.Contexts)), Var: r.IntN(4), Words: 1 + r.IntN(4)}
-			if !slices.ContainsFunc(c.Objects, func(x api.Object) bool { return x.Ctx == o.Ctx && x.Var == o.Var }) {
-				c.Objects = append(c.Objects, o)
-			}
-		}
-		c.Blocks = append(c.Blocks, api.Block{Params: c.Params})
-		for range 1 + r.IntN(5) {
-			c.Blocks = append(c.Blocks, api.Block{Params: r.IntN(4)})
-		}
-		w.m.Funcs = append(w.m.Funcs, c)
-		list := []api.VarInfo{}
-		for range r.IntN(6) {
-			list = append(list, api.VarInfo{Kind: 1 + r.IntN(3), Words: 1 + r.IntN(5), From: r.IntN(4), To: 3 + r.IntN(7)})
-		}
-		s.Vars = append(s.Vars, list)
-	}
-	for f := range w.m.Funcs {
-		for b := range w.m.Funcs[f].Blocks {
-			w.fill(&w.m.Funcs[f], &w.m.Funcs[f].Blocks[b])
-		}
-	}
-	return s, w.m
-}
-
-// fill writes a block's operations and its terminator.
-func (w *writer) fill(c *api.Code, b *api.Block) {
-	values := []int{}
-	for v := range b.Params {
-		values = append(values, v)
-	}
-	free := b.Params
-	for range w.IntN(12) {
-		o := w.operation(c, values)
-		if o.Kind >= api.OpConst && o.Kind <= api.OpLoad {
-			free += w.IntN(3)
-			o.Dst = free
-			values = append(values, o.Dst)
-			free++
-		}
-		b.Ops = append(b.Ops, o)
-	}
-	if len(values) == 0 {
-		b.Ops = append(b.Ops, api.Op{Kind: api.OpConst, Dst: 3, N: w.IntN(3)})
-		values = append(values, 3)
-	}
-	for i := range b.Ops {
-		if b.Ops[i].Src.Kind == api.SrcValue {
-			b.Ops[i].Src.Val = pick(w, values)
-		}
-	}
-	b.Term = w.terminator(c, values)
-}
-
-// operation returns one; a Bind to a value and the number of what is defined are still to be filled in.
-func (w *writer) operation(c *api.Code, values []int) api.Op {
-	ctx := w.IntN(len(c.Contexts))
-	switch n := w.IntN(20); {
-	case n < 5:
-		return api.Op{Kind: api.OpMark, N: w.IntN(10), Ctx: ctx}
-	case n < 6:
-		return api.Op{Kind: api.OpAt, N: w.IntN(10), Ctx: ctx}
-	case n < 10:
-		src := api.Src{Kind: w.IntN(4)}
-		if src.Kind == api.SrcEntry && c.Params == 0 {
-			src.Kind = api.SrcConstant
-		}
-		if src.Kind == api.SrcEntry {
-			src.Val = w.IntN(c.Params)
-		}
-		if src.Kind != api.SrcNowhere {
-			src.Add = pick(w, []int{0, 0, 1, -3, greatest})
-		}
-		return api.Op{Kind: api.OpBind, Ctx: ctx, Var: w.IntN(4), Piece: w.IntN(3), Src: src}
-	case n < 12 || len(values) == 0:
-		return api.Op{Kind: api.OpConst, N: pick(w, []int{0, 1, 2, -1, 5, least, greatest, 1 << 40})}
-	case n < 14 && len(c.Objects) > 0:
-		o := api.Op{Kind: api.OpLoad + w.IntN(3), N: w.IntN(len(c.Objects))}
-		if o.Kind != api.OpZero {
-			o.A = pick(w, values)
-		}
-		if o.Kind == api.OpStore {
-			o.B = pick(w, values)
-		}
-		return o
-	case n < 15:
-		return api.Op{Kind: api.OpPrint, A: pick(w, values)}
-	case n < 16:
-		return api.Op{Kind: api.OpCopy, A: pick(w, values)}
-	}
-	return api.Op{Kind: api.OpAdd + w.IntN(12), A: pick(w, values), B: pick(w, values)}
-}
-
-func (w *writer) terminator(c *api.Code, values []int) api.Term {
-	none := api.Edge{Block: -1}
-	t := api.Term{To: [2]api.Edge{none, none}}
-	arguments := func(n int) []int {
-		list := []int{}
-		for range n {
-			list = append(list, pick(w, values))
-		}
-		return list
-	}
-	edge := func(first int) api.Edge {
-		for range 9 {
-			if block := 1 + w.IntN(len(c.Blocks)-1); c.Blocks[block].Params >= first {
-				return api.Edge{Block: block, Args: arguments(c.Blocks[block].Params - first)}
-			}
-		}
-		return none
-	}
-	switch n := w.IntN(12); {
-	case n < 3:
-		t.Kind, t.To[0] = api.TermJump, edge(0)
-	case n < 6:
-		t.Kind, t.A, t.To[0], t.To[1] = api.TermBranch, pick(w, values), edge(0), edge(0)
-	case n < 9:
-		t.Kind, t.N, t.To[0] = api.TermCall, w.IntN(len(w.m.Funcs)), edge(1)
-		t.Args = arguments(w.m.Funcs[t.N].Params)
-		if w.IntN(2) > 0 {
-			t.To[1] = edge(1)
-		}
-		if t.To[0].Block < 0 {
-			return api.Term{Kind: api.TermThrow, A: pick(w, values), To: [2]api.Edge{none, none}}
-		}
-	case n < 10:
-		t.Kind, t.N = api.TermTail, w.IntN(len(w.m.Funcs))
-		t.Args = arguments(w.m.Funcs[t.N].Params)
-	default:
-		t.Kind, t.A = api.TermReturn+w.IntN(2), pick(w, values)
-	}
-	return t
-}
 
 func TestModulesByChance(t *testing.T) {
 	r := rand.New(rand.NewPCG(6, 1))
 	outcomes, all := map[string]int{}, 0
 	for range 3000 {
-		s, m := chanceModule(r)
+		s, m := modules.Module(r.IntN)
 		if e := Check(m); e != api.OK {
 			t.Fatalf("P6.2: %s\nis refused: %d", text(m), e)
 		}
@@ -246,7 +93,7 @@ func TestChangedModules(t *testing.T) {
 	r := rand.New(rand.NewPCG(6, 2))
 	sound := 0
 	for range 6000 {
-		s, m := chanceModule(r)
+		s, m := modules.Module(r.IntN)
 		m = roomy(m)
 		for range 1 + r.IntN(2) {
 			places := changeable(reflect.ValueOf(&m).Elem())
@@ -323,7 +170,7 @@ func change(r *rand.Rand, v reflect.Value) {
 func TestOtherSources(t *testing.T) {
 	r := rand.New(rand.NewPCG(6, 3))
 	for range 3000 {
-		s, m := chanceModule(r)
+		s, m := modules.Module(r.IntN)
 		s = roomy(s)
 		for range 1 + r.IntN(6) {
 			places := changeable(reflect.ValueOf(&s).Elem())
