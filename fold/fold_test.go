@@ -2,9 +2,11 @@ package fold
 
 import (
 	"fmt"
+	"slices"
 	"testing"
 
 	"debugger/api"
+	"debugger/passes"
 )
 
 func TestExample(t *testing.T) {
@@ -176,8 +178,8 @@ func TestReplacedOperands(t *testing.T) {
 
 // The fields that an operation does not use any more are 0; expectOps compares all of them.
 func TestUnusedFields(t *testing.T) {
-	c := code(t, "(2) v2 = 3; v3 = v2 + v2; v4 = copy v2; v5 = 0; v6 = v1 - v5; v7 = v1 & v5; bind 3.2 to v3 + 4; branch v5 1(v1) 1(v0)\n(1) return v0")
-	got := folded(t, "P8.2", c).Blocks[0]
+	c := passes.Parse(t, "(2) v2 = 3; v3 = v2 + v2; v4 = copy v2; v5 = 0; v6 = v1 - v5; v7 = v1 & v5; bind 3.2 to v3 + 4; branch v5 1(v1) 1(v0)\n(1) return v0")
+	got := passes.Result(t, "P8.2", Fold, c).Blocks[0]
 	want := []api.Op{
 		{Kind: api.OpConst, Dst: 2, N: 3},
 		{Kind: api.OpConst, Dst: 3, N: 6},
@@ -187,11 +189,11 @@ func TestUnusedFields(t *testing.T) {
 		{Kind: api.OpConst, Dst: 7},
 		{Kind: api.OpBind, Var: 3, Piece: 2, Src: api.Src{Kind: api.SrcConstant, Add: 10}},
 	}
-	if key(got.Ops) != key(want) {
+	if !slices.Equal(got.Ops, want) {
 		t.Errorf("P8.2: the operations are %+v", got.Ops)
 	}
 	end := api.Term{Kind: api.TermJump, To: [2]api.Edge{{Block: 1, Args: []int{0}}, {Block: -1}}}
-	if key(got.Term) != key(end) {
+	if fmt.Sprint(got.Term) != fmt.Sprint(end) {
 		t.Errorf("P8.2: the terminator is %+v", got.Term)
 	}
 }

@@ -1,0 +1,135 @@
+package passes
+
+import (
+	"debugger/api"
+	"debugger/duplicate"
+)
+
+// ExpectNew checks that the results of a pass are new memory, that its argument stays as it is, and that its result is always the same.
+func ExpectNew(t Tester, pass Pass, c api.Code) {
+	t.Helper()
+	c = Roomy(c)
+	before := duplicate.Code(Stretched(c))
+	first, again := pass(c), pass(c)
+	want := duplicate.Code(first)
+	if !Equal(again, want) {
+		t.Error("P3: the second result for " + shown(c) + "is another one")
+	}
+	if !Apart(c, first, again) {
+		t.Error("P2: two slices share memory: " + shown(c))
+	}
+	Spoil(first)
+	if !Equal(Stretched(c), before) {
+		t.Fatal("P2: the argument is changed, or changes with the result: " + shown(before))
+	}
+	if !Equal(pass(c), want) {
+		t.Error("P3: the result for " + shown(c) + "changes with an earlier one")
+	}
+	c = Close(c)
+	before = duplicate.Code(Stretched(c))
+	if !Equal(pass(c), want) || !Equal(Stretched(c), before) {
+		t.Error("P2: spare capacity of " + shown(c) + "is used")
+	}
+}
+
+// Stretched returns a code with the same memory whose slices reach to the end of their capacity.
+func Stretched(c api.Code) api.Code {
+	blocks := append([]api.Block(nil), c.Blocks[:cap(c.Blocks)]...)
+	for i := range blocks {
+		b := &blocks[i]
+		b.Ops = b.Ops[:cap(b.Ops)]
+		for _, list := range lists(&b.Term) {
+			*list = (*list)[:cap(*list)]
+		}
+	}
+	return api.Code{Params: c.Params, Blocks: blocks, Contexts: c.Contexts[:cap(c.Contexts)], Objects: c.Objects[:cap(c.Objects)]}
+}
+
+// lists returns the slices of a terminator.
+func lists(t *api.Term) []*[]int { return []*[]int{&t.Args, &t.To[0].Args, &t.To[1].Args} }
+
+// Roomy returns a copy of a code whose slices have spare capacity.
+func Roomy(c api.Code) api.Code {
+	c.Blocks, c.Contexts, c.Objects = roomy(c.Blocks), roomy(c.Contexts), roomy(c.Objects)
+	for i := range c.Blocks {
+		b := &c.Blocks[i]
+		b.Ops = roomy(b.Ops)
+		for _, list := range lists(&b.Term) {
+			*list = roomy(*list)
+		}
+	}
+	return c
+}
+
+func roomy[T any](list []T) []T { return append(make([]T, 0, len(list)+3), list...) }
+
+// Close returns a copy of a code whose operations, and whose arguments, lie in each other's spare capacity.
+func Close(c api.Code) api.Code {
+	c = duplicate.Code(c)
+	var ops []api.Op
+	var args []int
+	for _, b := range c.Blocks {
+		ops = append(ops, b.Ops...)
+		for _, list := range lists(&b.Term) {
+			args = append(args, *list...)
+		}
+	}
+	for i := range c.Blocks {
+		b := &c.Blocks[i]
+		b.Ops = first(&ops, len(b.Ops))
+		for _, list := range lists(&b.Term) {
+			*list = first(&args, len(*list))
+		}
+	}
+	return c
+}
+
+// first takes so many elements from the beginning of a list, with the rest as their spare capacity.
+func first[T any](list *[]T, count int) []T {
+	taken := (*list)[:count]
+	*list = (*list)[count:]
+	return taken
+}
+
+// Spoil makes everything in the memory of a code zero.
+func Spoil(c api.Code) {
+	all := Stretched(c)
+	for _, b := range all.Blocks {
+		clear(b.Ops)
+		for _, list := range lists(&b.Term) {
+			clear(*list)
+		}
+	}
+	clear(c.Blocks[:cap(c.Blocks)])
+	clear(all.Contexts)
+	clear(all.Objects)
+}
+
+// Apart tells whether no two slices of some codes share memory.
+func Apart(codes ...api.Code) bool {
+	seen := map[any]bool{}
+	for _, c := range codes {
+		all := Stretched(c)
+		if !note(seen, c.Blocks[:cap(c.Blocks)]) || !note(seen, all.Contexts) || !note(seen, all.Objects) {
+			return false
+		}
+		for _, b := range all.Blocks {
+			args := lists(&b.Term)
+			if !note(seen, b.Ops) || !note(seen, *args[0]) || !note(seen, *args[1]) || !note(seen, *args[2]) {
+				return false
+			}
+		}
+	}
+	return true
+}
+
+// note notes the places of the elements of a list, and tells whether none of them was noted before.
+func note[T any](seen map[any]bool, list []T) bool {
+	for i := range list {
+		if seen[&list[i]] {
+			return false
+		}
+		seen[&list[i]] = true
+	}
+	return true
+}

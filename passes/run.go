@@ -1,0 +1,95 @@
+package passes
+
+import (
+	"strconv"
+
+	"debugger/api"
+	"debugger/checker"
+	"debugger/interp"
+	"debugger/ir"
+	"debugger/lower"
+	"debugger/notation"
+	"debugger/parser"
+	"debugger/programs"
+)
+
+// Program returns the source of a program by chance, and its module before any pass.
+func Program(t Tester, choose func(n int) int) (api.Source, api.Module) {
+	t.Helper()
+	for {
+		text, _ := programs.Text(choose)
+		if len(text) > api.MaxText {
+			continue
+		}
+		p, _, _ := parser.Parse(text)
+		s, _, e := checker.Check(p)
+		if e != api.OK {
+			t.Fatal(text + " is refused: " + number(e))
+		}
+		if m, e := lower.Lower(s); e == api.OK {
+			return s, m
+		}
+	}
+}
+
+// Arguments returns arguments for a run by chance.
+func Arguments(choose func(n int) int, count int) []int {
+	words := []int{least, -7, -1, 0, 0, 1, 1, 2, 3, 4, 8, greatest}
+	list := []int{}
+	for range count {
+		list = append(list, words[choose(len(words))])
+	}
+	return list
+}
+
+// Whole returns all events of a run, and its outcome.
+func Whole(s api.Source, m api.Module, f int, args []int, steps int) ([]api.Event, api.Outcome) {
+	all := []api.Event{}
+	for {
+		events, o := ir.Trace(s, m, f, args, steps, len(all), 100)
+		all = append(all, events...)
+		if len(events) < 100 {
+			return all, o
+		}
+	}
+}
+
+// ExpectSame checks that a function of two modules runs in the same way, and returns the outcome.
+func ExpectSame(t Tester, s api.Source, m, other api.Module, f int, args []int, steps int) api.Outcome {
+	t.Helper()
+	events, o := Whole(s, m, f, args, steps)
+	got, end := Whole(s, other, f, args, steps)
+	if !EqualOutcomes(o, end) || len(events) != len(got) {
+		t.Fatal("S1, S2: the outcomes or the numbers of events differ: " + described(f, args, steps, m, other))
+	}
+	if !EqualEvents(events, got) {
+		t.Fatal("S3: the events differ: " + described(f, args, steps, m, other))
+	}
+	return o
+}
+
+// ExpectInterpreted checks that a function of a program's module has the outcome and the first events of the interpreter, with all words.
+func ExpectInterpreted(t Tester, s api.Source, m api.Module, f int, args []int, steps int) {
+	t.Helper()
+	events, o := ir.Trace(s, m, f, args, steps, 0, 100)
+	wants, want := interp.Trace(s, f, args, steps, 0, 100)
+	if !EqualOutcomes(o, want) || !EqualEvents(events, wants) {
+		t.Fatal("S1 to S3: other events than those of\n" + parser.Print(s.Program) + described(f, args, steps, m))
+	}
+}
+
+// described returns a run of a function of some modules as a text.
+func described(f int, args []int, steps int, list ...api.Module) string {
+	text := "function " + strconv.Itoa(f) + " with"
+	for _, a := range args {
+		text += " " + strconv.Itoa(a)
+	}
+	text += " in " + strconv.Itoa(steps) + " steps"
+	for _, x := range list {
+		text += "\n--\n"
+		for _, c := range x.Funcs {
+			text += notation.Print(c)
+		}
+	}
+	return text
+}

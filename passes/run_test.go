@@ -1,0 +1,81 @@
+package passes
+
+import (
+	"math/rand/v2"
+	"testing"
+
+	"debugger/api"
+	"debugger/checker"
+	"debugger/ir"
+	"debugger/parser"
+)
+
+// counting prints, and has an event for each number from its argument down to 1.
+const counting = "(1) bind 0 to v0; mark 0; print v0; v1 = 1; v2 = v0 - v1; branch v2 1(v2) 2(v2)\n(1) bind 0 to v0; mark 0; print v0; v1 = 1; v2 = v0 - v1; branch v2 1(v2) 2(v2)\n(1) return v0"
+
+// one returns a module of one function with one variable, and its source.
+func one(t *testing.T, text string) (api.Source, api.Module) {
+	t.Helper()
+	s := api.Source{Vars: [][]api.VarInfo{{{Kind: api.VarScalar, Words: 1, To: 99}}}}
+	return s, api.Module{Funcs: []api.Code{Parse(t, text)}}
+}
+
+func TestWhole(t *testing.T) {
+	s, m := one(t, counting)
+	for _, n := range []int{1, 99, 100, 101, 250} {
+		events, o := Whole(s, m, 0, []int{n}, 1000)
+		if len(events) != n || len(o.Output) != n || o.Err != api.OK || events[n-1].Frames[0].Vars[0].Words[0] != 1 {
+			t.Errorf("a run down from %d has %d events and the outcome %+v", n, len(events), o)
+		}
+	}
+}
+
+func TestExpectSame(t *testing.T) {
+	s, m := one(t, counting)
+	for about, c := range map[string]struct {
+		text string
+		want []string
+	}{
+		"the same":             {counting, nil},
+		"another value":        {"(1) bind 0 to v0; mark 0; print v0; return v0", []string{"S1, S2: "}},
+		"another output":       {"(1) bind 0 to v0; mark 0; v1 = 0; return v1", []string{"S1, S2: "}},
+		"thrown":               {"(1) bind 0 to v0; mark 0; print v0; v1 = 0; throw v1", []string{"S1, S2: "}},
+		"one event more":       {"(1) bind 0 to v0; mark 0; mark 0; print v0; v1 = 0; return v1", []string{"S1, S2: "}},
+		"another statement":    {"(1) bind 0 to v0; mark 1; print v0; v1 = 0; return v1", []string{"S3: "}},
+		"an unavailable word":  {"(1) bind 0 to nowhere; mark 0; print v0; v1 = 0; return v1", []string{"S3: "}},
+		"another word":         {"(1) bind 0 to v0 + 1; mark 0; print v0; v1 = 0; return v1", []string{"S3: "}},
+		"the same in one step": {"(1) bind 0 to constant + 1; mark 0; print v0; v1 = 0; return v1", nil},
+	} {
+		_, other := one(t, c.text)
+		expectTold(t, about, func(t Tester) { ExpectSame(t, s, m, other, 0, []int{1}, 10) }, c.want...)
+	}
+}
+
+func TestProgram(t *testing.T) {
+	r := rand.New(rand.NewPCG(9, 2))
+	for range 50 {
+		s, m := Program(t, r.IntN)
+		if len(s.Vars) != len(m.Funcs) || len(m.Funcs) == 0 || ir.Check(m) != api.OK {
+			t.Fatalf("%d functions, %d with variables", len(m.Funcs), len(s.Vars))
+		}
+		args := Arguments(r.IntN, m.Funcs[0].Params)
+		ExpectInterpreted(t, s, m, 0, args, 100)
+	}
+}
+
+func TestExpectInterpreted(t *testing.T) {
+	p, _, _ := parser.Parse("func f(a) { a = a + 1; return a; }")
+	s, _, _ := checker.Check(p)
+	for about, c := range map[string]struct {
+		text string
+		want []string
+	}{
+		"the program":         {"(1) bind 0 to v0; mark 0; v1 = 1; v2 = v0 + v1; bind 0 to v2; mark 1; return v2", nil},
+		"another value":       {"(1) bind 0 to v0; mark 0; v1 = 1; v2 = v0 + v1; bind 0 to v2; mark 1; return v1", []string{"S1 to S3: "}},
+		"a missing event":     {"(1) v1 = 1; v2 = v0 + v1; bind 0 to v2; mark 1; return v2", []string{"S1 to S3: "}},
+		"an unavailable word": {"(1) bind 0 to v0; mark 0; v1 = 1; v2 = v0 + v1; bind 0 to nowhere; mark 1; return v2", []string{"S1 to S3: "}},
+	} {
+		m := api.Module{Funcs: []api.Code{Parse(t, c.text)}}
+		expectTold(t, about, func(t Tester) { ExpectInterpreted(t, s, m, 0, []int{4}, 10) }, c.want...)
+	}
+}
