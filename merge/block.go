@@ -14,9 +14,8 @@ const lastValue = 9999
 func edges(blocks []api.Block) iter.Seq[*api.Edge] {
 	return func(yield func(*api.Edge) bool) {
 		for i := range blocks {
-			to := &blocks[i].Term.To
-			for j := range to {
-				if to[j].Block >= 0 && !yield(&to[j]) {
+			for e := range operation.Edges(&blocks[i].Term) {
+				if !yield(e) {
 					return
 				}
 			}

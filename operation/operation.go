@@ -1,4 +1,4 @@
-// Package operation tells which fields the operations of the intermediate code use.
+// Package operation tells which fields the operations and the terminators of the intermediate code use.
 package operation
 
 import "debugger/api"

@@ -19,17 +19,15 @@ func Values(o *api.Op) iter.Seq[*int] {
 	}
 }
 
-// Leaving goes through the values that a terminator uses: A, the Args, and the arguments of both edges; they may be replaced.
-func Leaving(t *api.Term) iter.Seq[*int] {
+// Ending goes through the values that a terminator itself uses: A and the Args; they may be replaced.
+func Ending(t *api.Term) iter.Seq[*int] {
 	return func(yield func(*int) bool) {
 		if decides(t.Kind) && !yield(&t.A) {
 			return
 		}
-		for _, list := range [][]int{t.Args, t.To[0].Args, t.To[1].Args} {
-			for i := range list {
-				if !yield(&list[i]) {
-					return
-				}
+		for i := range t.Args {
+			if !yield(&t.Args[i]) {
+				return
 			}
 		}
 	}
@@ -38,4 +36,33 @@ func Leaving(t *api.Term) iter.Seq[*int] {
 // decides tells whether the terminators of a kind use the value A.
 func decides(kind int) bool {
 	return kind == api.TermBranch || kind == api.TermReturn || kind == api.TermThrow
+}
+
+// Edges goes through the edges of a terminator that lead to blocks; they may be changed.
+func Edges(t *api.Term) iter.Seq[*api.Edge] {
+	return func(yield func(*api.Edge) bool) {
+		for i := range t.To {
+			if e := &t.To[i]; e.Block >= 0 && !yield(e) {
+				return
+			}
+		}
+	}
+}
+
+// Leaving goes through the values that a terminator uses, itself and as the arguments of its edges; they may be replaced.
+func Leaving(t *api.Term) iter.Seq[*int] {
+	return func(yield func(*int) bool) {
+		for v := range Ending(t) {
+			if !yield(v) {
+				return
+			}
+		}
+		for e := range Edges(t) {
+			for i := range e.Args {
+				if !yield(&e.Args[i]) {
+					return
+				}
+			}
+		}
+	}
 }

@@ -67,3 +67,46 @@ func TestLeaving(t *testing.T) {
 		}
 	}
 }
+
+func TestEnding(t *testing.T) {
+	for kind := -1; kind <= api.TermTail+1; kind++ {
+		used := []int{2, 3}
+		if kind == api.TermBranch || kind == api.TermReturn || kind == api.TermThrow {
+			used = []int{1, 2, 3}
+		}
+		for most := 1; most <= len(used)+1; most++ {
+			end := api.Term{Kind: kind, A: 1, N: 9, Args: []int{2, 3}, To: [2]api.Edge{{Block: 8, Args: []int{4}}, {Block: 7, Args: []int{6}}}}
+			got := negated(Ending(&end), most)
+			if fmt.Sprint(got) != fmt.Sprint(used[:min(most, len(used))]) || end.N != 9 || end.To[0].Args[0] != 4 || end.To[1].Args[0] != 6 {
+				t.Errorf("the values of the kind %d itself are %v, and it becomes %+v", kind, got, end)
+			}
+			if last := end.Args[1]; (last == -3) != (most >= len(used)) {
+				t.Errorf("the last of the Args of the kind %d is %d", kind, last)
+			}
+		}
+	}
+}
+
+func TestEdges(t *testing.T) {
+	for _, c := range []struct{ first, second, most int }{{-1, -1, 2}, {0, -1, 2}, {5, -1, 2}, {-1, 5, 2}, {3, 4, 2}, {3, 4, 1}, {4, 4, 2}} {
+		end := api.Term{Kind: api.TermBranch, To: [2]api.Edge{{Block: c.first}, {Block: c.second}}}
+		want, after := []int{}, end.To
+		for i, e := range end.To {
+			if e.Block >= 0 && len(want) < c.most {
+				want = append(want, e.Block)
+				after[i].Block += 10
+			}
+		}
+		got := []int{}
+		for e := range Edges(&end) {
+			got = append(got, e.Block)
+			e.Block += 10
+			if len(got) == c.most {
+				break
+			}
+		}
+		if fmt.Sprint(got) != fmt.Sprint(want) || fmt.Sprint(end.To) != fmt.Sprint(after) {
+			t.Errorf("the edges of %+v lead to %v, and become %v", c, got, end.To)
+		}
+	}
+}

@@ -51,6 +51,34 @@ func TestExpectSame(t *testing.T) {
 	}
 }
 
+func TestExpectLike(t *testing.T) {
+	s, m := one(t, counting)
+	for about, c := range map[string]struct {
+		text string
+		like func(got, want []api.Event) bool
+		want []string
+	}{
+		"the same":                 {counting, Within, nil},
+		"another value":            {"(1) bind 0 to v0; mark 0; print v0; return v0", Within, []string{"S1, S2: "}},
+		"an unavailable word":      {"(1) mark 0; print v0; v1 = 0; return v1", Within, nil},
+		"another word":             {"(1) bind 0 to v0 + 1; mark 0; print v0; v1 = 0; return v1", Within, []string{"S3: "}},
+		"no two words that differ": {"(1) mark 0; print v0; v1 = 0; return v1", Agree, nil},
+		"two words that differ":    {"(1) bind 0 to constant; mark 0; print v0; v1 = 0; return v1", Agree, []string{"S3: "}},
+	} {
+		_, other := one(t, c.text)
+		expectTold(t, about, func(t Tester) {
+			if o := ExpectLike(t, s, m, other, 0, []int{1}, 10, c.like); len(o.Output) != 1 {
+				t.Error("another outcome")
+			}
+		}, c.want...)
+	}
+	// The second module is the one that may know less.
+	_, other := one(t, "(1) mark 0; print v0; v1 = 0; return v1")
+	expectTold(t, "less is known", func(t Tester) { ExpectLike(t, s, m, other, 0, []int{1}, 10, Within) })
+	expectTold(t, "more is known", func(t Tester) { ExpectLike(t, s, other, m, 0, []int{1}, 10, Within) }, "S3: ")
+	expectTold(t, "more is known, and may be", func(t Tester) { ExpectLike(t, s, other, m, 0, []int{1}, 10, Agree) })
+}
+
 func TestProgram(t *testing.T) {
 	r := rand.New(rand.NewPCG(9, 2))
 	for range 50 {
@@ -66,16 +94,19 @@ func TestProgram(t *testing.T) {
 func TestExpectInterpreted(t *testing.T) {
 	p, _, _ := parser.Parse("func f(a) { a = a + 1; return a; }")
 	s, _, _ := checker.Check(p)
+	const wrong = "S1 to S3: "
 	for about, c := range map[string]struct {
-		text string
-		want []string
+		text       string
+		same, true []string
 	}{
-		"the program":         {"(1) bind 0 to v0; mark 0; v1 = 1; v2 = v0 + v1; bind 0 to v2; mark 1; return v2", nil},
-		"another value":       {"(1) bind 0 to v0; mark 0; v1 = 1; v2 = v0 + v1; bind 0 to v2; mark 1; return v1", []string{"S1 to S3: "}},
-		"a missing event":     {"(1) v1 = 1; v2 = v0 + v1; bind 0 to v2; mark 1; return v2", []string{"S1 to S3: "}},
-		"an unavailable word": {"(1) bind 0 to v0; mark 0; v1 = 1; v2 = v0 + v1; bind 0 to nowhere; mark 1; return v2", []string{"S1 to S3: "}},
+		"the program":         {"(1) bind 0 to v0; mark 0; v1 = 1; v2 = v0 + v1; bind 0 to v2; mark 1; return v2", nil, nil},
+		"another value":       {"(1) bind 0 to v0; mark 0; v1 = 1; v2 = v0 + v1; bind 0 to v2; mark 1; return v1", []string{wrong}, []string{wrong}},
+		"a missing event":     {"(1) v1 = 1; v2 = v0 + v1; bind 0 to v2; mark 1; return v2", []string{wrong}, []string{wrong}},
+		"an unavailable word": {"(1) bind 0 to v0; mark 0; v1 = 1; v2 = v0 + v1; bind 0 to nowhere; mark 1; return v2", []string{wrong}, nil},
+		"another word":        {"(1) bind 0 to v0; mark 0; v1 = 1; v2 = v0 + v1; bind 0 to v0; mark 1; return v2", []string{wrong}, []string{wrong}},
 	} {
 		m := api.Module{Funcs: []api.Code{Parse(t, c.text)}}
-		expectTold(t, about, func(t Tester) { ExpectInterpreted(t, s, m, 0, []int{4}, 10) }, c.want...)
+		expectTold(t, about, func(t Tester) { ExpectInterpreted(t, s, m, 0, []int{4}, 10) }, c.same...)
+		expectTold(t, about, func(t Tester) { ExpectTrue(t, s, m, 0, []int{4}, 10) }, c.true...)
 	}
 }
