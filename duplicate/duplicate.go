@@ -3,6 +3,15 @@ package duplicate
 
 import "debugger/api"
 
+// Module returns a copy of a program's code that shares no memory with it.
+func Module(m api.Module) api.Module {
+	funcs := make([]api.Code, len(m.Funcs))
+	for i, c := range m.Funcs {
+		funcs[i] = Code(c)
+	}
+	return api.Module{Funcs: funcs}
+}
+
 // Code returns a copy of a function's code that shares no memory with it.
 func Code(c api.Code) api.Code {
 	blocks := make([]api.Block, len(c.Blocks))

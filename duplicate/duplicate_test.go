@@ -45,6 +45,25 @@ func TestCode(t *testing.T) {
 	}
 }
 
+func TestModule(t *testing.T) {
+	r := rand.New(rand.NewPCG(2, 2))
+	for range 300 {
+		_, m := modules.Module(r.IntN)
+		want := fmt.Sprint(m)
+		first, second := Module(m), Module(m)
+		if fmt.Sprint(first) != want {
+			t.Fatalf("the copy of %s is %+v", want, first)
+		}
+		for _, c := range first.Funcs {
+			spoil(c)
+		}
+		clear(first.Funcs)
+		if fmt.Sprint(m) != want || fmt.Sprint(second) != want {
+			t.Fatalf("a copy shares memory with %s", want)
+		}
+	}
+}
+
 // The memory behind the end of a list is no part of the copy.
 func TestSpare(t *testing.T) {
 	room := make([]int, 4)

@@ -8,27 +8,33 @@ import (
 // ExpectNew checks that the results of a pass are new memory, that its argument stays as it is, and that its result is always the same.
 func ExpectNew(t Tester, pass Pass, c api.Code) {
 	t.Helper()
-	c = Roomy(c)
-	before := duplicate.Code(Stretched(c))
-	first, again := pass(c), pass(c)
-	want := duplicate.Code(first)
-	if !Equal(again, want) {
-		t.Error("P3: the second result for " + shown(c) + "is another one")
+	ExpectNewModule(t, Each(pass), api.Module{Funcs: []api.Code{c}})
+}
+
+// ExpectNewModule checks the same of a pass over modules.
+func ExpectNewModule(t Tester, pass ModulePass, m api.Module) {
+	t.Helper()
+	m = roomyModule(m)
+	before := duplicate.Module(stretchedModule(m))
+	first, again := pass(m), pass(m)
+	want := duplicate.Module(first)
+	if !EqualModules(again, want) {
+		t.Error("P3: the second result for " + shownModule(m) + "is another one")
 	}
-	if !Apart(c, first, again) {
-		t.Error("P2: two slices share memory: " + shown(c))
+	if !apartModules(m, first, again) {
+		t.Error("P2: two slices share memory: " + shownModule(m))
 	}
-	Spoil(first)
-	if !Equal(Stretched(c), before) {
-		t.Fatal("P2: the argument is changed, or changes with the result: " + shown(before))
+	spoilModule(first)
+	if !EqualModules(stretchedModule(m), before) {
+		t.Fatal("P2: the argument is changed, or changes with the result: " + shownModule(before))
 	}
-	if !Equal(pass(c), want) {
-		t.Error("P3: the result for " + shown(c) + "changes with an earlier one")
+	if !EqualModules(pass(m), want) {
+		t.Error("P3: the result for " + shownModule(m) + "changes with an earlier one")
 	}
-	c = Close(c)
-	before = duplicate.Code(Stretched(c))
-	if !Equal(pass(c), want) || !Equal(Stretched(c), before) {
-		t.Error("P2: spare capacity of " + shown(c) + "is used")
+	m = Each(Close)(m)
+	before = duplicate.Module(stretchedModule(m))
+	if !EqualModules(pass(m), want) || !EqualModules(stretchedModule(m), before) {
+		t.Error("P2: spare capacity of " + shownModule(m) + "is used")
 	}
 }
 
@@ -45,6 +51,10 @@ func Stretched(c api.Code) api.Code {
 	return api.Code{Params: c.Params, Blocks: blocks, Contexts: c.Contexts[:cap(c.Contexts)], Objects: c.Objects[:cap(c.Objects)]}
 }
 
+func stretchedModule(m api.Module) api.Module {
+	return Each(Stretched)(api.Module{Funcs: m.Funcs[:cap(m.Funcs)]})
+}
+
 // lists returns the slices of a terminator.
 func lists(t *api.Term) []*[]int { return []*[]int{&t.Args, &t.To[0].Args, &t.To[1].Args} }
 
@@ -59,6 +69,10 @@ func Roomy(c api.Code) api.Code {
 		}
 	}
 	return c
+}
+
+func roomyModule(m api.Module) api.Module {
+	return api.Module{Funcs: roomy(Each(Roomy)(m).Funcs)}
 }
 
 func roomy[T any](list []T) []T { return append(make([]T, 0, len(list)+3), list...) }
@@ -105,9 +119,30 @@ func Spoil(c api.Code) {
 	clear(all.Objects)
 }
 
+func spoilModule(m api.Module) {
+	for _, c := range m.Funcs {
+		Spoil(c)
+	}
+	clear(m.Funcs[:cap(m.Funcs)])
+}
+
 // Apart tells whether no two slices of some codes share memory.
-func Apart(codes ...api.Code) bool {
+func Apart(codes ...api.Code) bool { return apart(map[any]bool{}, codes) }
+
+// apartModules tells whether no two slices of some modules share memory.
+func apartModules(list ...api.Module) bool {
 	seen := map[any]bool{}
+	for _, m := range list {
+		funcs := m.Funcs[:cap(m.Funcs)]
+		if !note(seen, funcs) || !apart(seen, funcs) {
+			return false
+		}
+	}
+	return true
+}
+
+// apart tells whether no two slices of some codes, and of those that were seen before, share memory.
+func apart(seen map[any]bool, codes []api.Code) bool {
 	for _, c := range codes {
 		all := Stretched(c)
 		if !note(seen, c.Blocks[:cap(c.Blocks)]) || !note(seen, all.Contexts) || !note(seen, all.Objects) {

@@ -69,12 +69,18 @@ func refuse(t Tester, promise string, pass Pass, about string, c api.Code, want 
 	if e := ir.CheckCode(c); e != want {
 		t.Fatal(promise + ": " + about + ": the error is " + number(e))
 	}
-	c = Roomy(c)
-	before := duplicate.Code(Stretched(c))
-	if got := pass(c); !Equal(got, c) {
-		t.Error(promise + ": " + about + ": the code becomes " + shown(got))
+	expectKept(t, promise, Each(pass), about, api.Module{Funcs: []api.Code{c}})
+}
+
+// expectKept checks that a pass returns a module as it is.
+func expectKept(t Tester, promise string, pass ModulePass, about string, m api.Module) {
+	t.Helper()
+	m = roomyModule(m)
+	before := duplicate.Module(stretchedModule(m))
+	if got := pass(m); !EqualModules(got, m) {
+		t.Error(promise + ": " + about + ": the code becomes " + shownModule(got))
 	}
-	if !Equal(Stretched(c), before) {
+	if !EqualModules(stretchedModule(m), before) {
 		t.Error("P2: " + about + ": the code is changed")
 	}
 }

@@ -79,6 +79,43 @@ func TestExpectLike(t *testing.T) {
 	expectTold(t, "more is known, and may be", func(t Tester) { ExpectLike(t, s, other, m, 0, []int{1}, 10, Agree) })
 }
 
+// endless prints its argument and calls itself with one that is greater by 1.
+const endless = "(1) bind 0 to v0; mark 0; print v0; v1 = 1; v2 = v0 + v1; call 0(v2) 1()\n(1) return v0"
+
+func TestExpectFewer(t *testing.T) {
+	s, m := one(t, endless)
+	for about, c := range map[string]struct {
+		text string
+		want []string
+	}{
+		"the same":           {endless, nil},
+		"fewer activations":  {"(1) bind 0 to v0; mark 0; print v0; v1 = 1; v2 = v0 + v1; tail 0(v2)", nil},
+		"too few events":     {"(1) bind 0 to v0; mark 0; print v0; return v0", []string{"S1, S2: "}},
+		"too little printed": {"(1) bind 0 to v0; mark 0; v1 = 1; v2 = v0 + v1; tail 0(v2)", []string{"S1, S2: "}},
+		"something else":     {"(1) bind 0 to v0; mark 0; print v0; v1 = 2; v2 = v0 + v1; tail 0(v2)", []string{"S1, S2: "}},
+		"another word":       {"(1) bind 0 to v0 + 1; mark 0; print v0; v1 = 1; v2 = v0 + v1; call 0(v2) 1()\n(1) return v0", []string{"S3: "}},
+	} {
+		_, other := one(t, c.text)
+		like := func(got, want []api.Event) bool {
+			for i := range got {
+				if !equalShown(got[i].Frames[0].Vars[0], want[i].Frames[0].Vars[0]) {
+					return false
+				}
+			}
+			return len(got) == len(want)
+		}
+		expectTold(t, about, func(t Tester) {
+			if o := ExpectFewer(t, s, m, other, 0, []int{1}, 50, like); o.Err != api.ErrLimit {
+				t.Error("another outcome")
+			}
+		}, c.want...)
+	}
+	s, m = one(t, counting)
+	_, other := one(t, "(1) bind 0 to v0; mark 0; print v0; return v0")
+	expectTold(t, "not too many activations", func(t Tester) { ExpectFewer(t, s, m, m, 0, []int{3}, 10, EqualEvents) })
+	expectTold(t, "another value", func(t Tester) { ExpectFewer(t, s, m, other, 0, []int{1}, 10, EqualEvents) }, "S1, S2: ")
+}
+
 func TestProgram(t *testing.T) {
 	r := rand.New(rand.NewPCG(9, 2))
 	for range 50 {
