@@ -40,7 +40,7 @@ func TestEmptyBlocks(t *testing.T) {
 func TestLargest(t *testing.T) {
 	c := passes.Largest(t)
 	got := passes.Result(t, "P10.1", Dead, c)
-	// The blocks that repeat the last one are not reached, and the long row of copies is not needed.
+	// Only the first four blocks are reached, and the long row of copies is not needed.
 	if len(got.Blocks) != 4 || len(got.Blocks[0].Ops) != 5 || len(got.Contexts) != 64 || len(got.Objects) != 64 {
 		t.Errorf("P10.1: %d blocks, %d operations, %d contexts, %d objects", len(got.Blocks), len(got.Blocks[0].Ops), len(got.Contexts), len(got.Objects))
 	}

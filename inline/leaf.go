@@ -1,6 +1,9 @@
 package inline
 
-import "debugger/api"
+import (
+	"debugger/api"
+	"debugger/operation"
+)
 
 // The largest leaf.
 const (
@@ -20,7 +23,7 @@ func leavesOf(m api.Module) map[int]api.Code {
 }
 
 func isLeaf(c api.Code) bool {
-	if len(c.Blocks) > leafBlocks || operations(c) > leafOps || len(c.Contexts) > 1 {
+	if len(c.Blocks) > leafBlocks || operation.Count(c) > leafOps || len(c.Contexts) > 1 {
 		return false
 	}
 	for _, b := range c.Blocks {

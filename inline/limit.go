@@ -1,6 +1,9 @@
 package inline
 
-import "debugger/api"
+import (
+	"debugger/api"
+	"debugger/operation"
+)
 
 // The most that a function may have behind a replacement, beside the limits of package api.
 const (
@@ -14,20 +17,11 @@ const (
 func (s site) fits(c api.Code) bool {
 	params, value := greatest(s.leaf)
 	return len(c.Blocks)+len(s.leaf.Blocks) <= api.MaxBlocks &&
-		operations(c)+operations(s.leaf)+len(s.leaf.Blocks)*len(s.bindings) <= api.MaxOps &&
+		operation.Count(c)+operation.Count(s.leaf)+len(s.leaf.Blocks)*len(s.bindings) <= api.MaxOps &&
 		len(c.Contexts)+1 <= mostContexts &&
 		len(c.Objects)+len(s.leaf.Objects) <= mostObjects &&
 		params+len(s.passed) <= mostParams &&
 		value+len(s.passed) <= lastValue
-}
-
-// operations returns how many operations a code has.
-func operations(c api.Code) int {
-	count := 0
-	for _, b := range c.Blocks {
-		count += len(b.Ops)
-	}
-	return count
 }
 
 // greatest returns the greatest number of parameters of a block, and the greatest number of a value that an operation defines.

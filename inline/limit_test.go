@@ -5,6 +5,7 @@ import (
 
 	"debugger/api"
 	"debugger/duplicate"
+	"debugger/operation"
 	"debugger/passes"
 )
 
@@ -23,7 +24,7 @@ func fill(m api.Module, blocks, ops, contexts, objects int) api.Module {
 		c.Objects = append(c.Objects, api.Object{Ctx: v / api.MaxVars, Var: v % api.MaxVars, Words: 1})
 	}
 	last := &c.Blocks[len(c.Blocks)-1]
-	for range ops - operations(*c) {
+	for range ops - operation.Count(*c) {
 		last.Ops = append(last.Ops, api.Op{Kind: api.OpBind})
 	}
 	return m

@@ -79,9 +79,9 @@ func raise(b *api.Block, greatest int) {
 		return v
 	}
 	for i, o := range b.Ops {
-		b.Ops[i] = renamed(o, n)
+		b.Ops[i] = passes.Renamed(o, n)
 	}
-	b.Term = ended(b.Term, n, func(block int) int { return block })
+	b.Term = passes.Ended(b.Term, n, func(block int) int { return block })
 }
 
 // left tells whether a merged code has a jump that is the only edge to another block: there were no numbers left for it.

@@ -66,8 +66,8 @@ func TestOperations(t *testing.T) {
 
 // Another edge leads to each of the blocks behind block 1, so that they stay.
 const (
-	behind = "\n(0) v0 = 1; branch v0 2() 3(v0)\n(1) branch v0 4(v0 v0) 2()\n(2) branch v1 3(v0) 4(v1 v0)"
-	moved  = "\n(0) v0 = 1; branch v0 1() 2(v0)\n(1) branch v0 3(v0 v0) 1()\n(2) branch v1 2(v0) 3(v1 v0)"
+	later = "\n(0) v0 = 1; branch v0 2() 3(v0)\n(1) branch v0 4(v0 v0) 2()\n(2) branch v1 3(v0) 4(v1 v0)"
+	moved = "\n(0) v0 = 1; branch v0 1() 2(v0)\n(1) branch v0 3(v0 v0) 1()\n(2) branch v1 2(v0) 3(v1 v0)"
 )
 
 func TestTerminators(t *testing.T) {
@@ -94,7 +94,7 @@ func TestTerminators(t *testing.T) {
 		"v7 = v6 - v0; v3 = 2; return v3":     "v7 = v6 - v4; v8 = 2; return v8",
 		"v3 = v0 * v5; v4 = 3; tail 1(v3 v4)": "v7 = v4 * v5; v8 = 3; tail 1(v7 v8)",
 	} {
-		expectMerged(t, jumping+"v5 = v0 - v2; v6 = v1 % v5; "+from+behind, ahead+"v5 = v4 - v0; v6 = v1 % v5; "+want+moved)
+		expectMerged(t, jumping+"v5 = v0 - v2; v6 = v1 % v5; "+from+later, ahead+"v5 = v4 - v0; v6 = v1 % v5; "+want+moved)
 	}
 }
 

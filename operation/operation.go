@@ -25,3 +25,12 @@ func Operator(kind int) int { return kind - api.OpAdd + api.ExprAdd }
 
 // Kind returns the kind of the operations that compute an operator with two operands; it is not binary if there is no such operator.
 func Kind(operator int) int { return operator - api.ExprAdd + api.OpAdd }
+
+// Count returns how many operations a code has.
+func Count(c api.Code) int {
+	count := 0
+	for _, b := range c.Blocks {
+		count += len(b.Ops)
+	}
+	return count
+}

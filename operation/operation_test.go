@@ -41,3 +41,15 @@ func TestOperators(t *testing.T) {
 		}
 	}
 }
+
+func TestCount(t *testing.T) {
+	b := func(count int) api.Block { return api.Block{Ops: make([]api.Op, count)} }
+	for _, c := range []struct {
+		blocks []api.Block
+		want   int
+	}{{nil, 0}, {[]api.Block{b(0)}, 0}, {[]api.Block{b(3)}, 3}, {[]api.Block{b(2), b(0), b(5)}, 7}} {
+		if got := Count(api.Code{Blocks: c.blocks}); got != c.want {
+			t.Errorf("%d operations, not %d", got, c.want)
+		}
+	}
+}

@@ -86,3 +86,21 @@ func ExpectChanged(t Tester, promise string, pass, reckon Pass, choose func(n in
 	}
 	return sound
 }
+
+// Blank returns a code whose blocks begin with a position of their own and without bindings, so that what a block shows does not depend on what is ahead of it.
+func Blank(choose func(n int) int, c api.Code) api.Code {
+	c = Roomy(c)
+	for i := range c.Blocks {
+		b, ops := &c.Blocks[i], []api.Op{}
+		for x := range c.Contexts {
+			for v := range 5 {
+				for piece := range 3 {
+					ops = append(ops, api.Op{Kind: api.OpBind, Ctx: x, Var: v, Piece: piece})
+				}
+			}
+		}
+		ops = append(ops, api.Op{Kind: api.OpAt, N: choose(10), Ctx: choose(len(c.Contexts))})
+		b.Ops = append(ops, b.Ops...)
+	}
+	return c
+}

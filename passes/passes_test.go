@@ -178,3 +178,22 @@ func TestExpectChanged(t *testing.T) {
 		expectTold(t, about, func(t Tester) { ExpectChanged(t, "P1.2", c.pass, careful(turn), r.IntN, 1000) }, c.want)
 	}
 }
+
+func TestBlank(t *testing.T) {
+	r := rand.New(rand.NewPCG(9, 4))
+	for range 200 {
+		_, m := modules.Module(r.IntN)
+		c := m.Funcs[0]
+		before := duplicate.Code(c)
+		other := Blank(r.IntN, c)
+		if !Equal(c, before) || !Apart(c, other) || ir.CheckCode(other) != api.OK {
+			t.Fatalf("%s is changed, or shares memory with %s", shown(before), shown(other))
+		}
+		for i, b := range other.Blocks {
+			added := len(b.Ops) - len(c.Blocks[i].Ops)
+			if added != 15*len(c.Contexts)+1 || b.Ops[added-1].Kind != api.OpAt || !Equal(api.Code{Blocks: []api.Block{{Ops: b.Ops[added:]}}}, api.Code{Blocks: []api.Block{{Ops: c.Blocks[i].Ops}}}) {
+				t.Fatalf("block %d of\n%s becomes that of\n%s", i, shown(c), shown(other))
+			}
+		}
+	}
+}

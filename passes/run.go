@@ -81,6 +81,31 @@ func ExpectFewer(t Tester, s api.Source, m, other api.Module, f int, args []int,
 	if o.Err != api.ErrLimit {
 		return ExpectLike(t, s, m, other, f, args, steps, like)
 	}
+	expectBeginning(t, s, m, other, f, args, steps, like, events, o)
+	return o
+}
+
+// ExpectFurther is ExpectLike for a second module that may enter fewer blocks: if the first one enters too many, both only have to begin in the same way.
+func ExpectFurther(t Tester, s api.Source, m, other api.Module, f int, args []int, steps int, like func(got, want []api.Event) bool) api.Outcome {
+	t.Helper()
+	if !Starved(s, m, f, args, steps) {
+		return ExpectLike(t, s, m, other, f, args, steps, like)
+	}
+	events, o := Whole(s, m, f, args, steps)
+	expectBeginning(t, s, m, other, f, args, steps, like, events, o)
+	return o
+}
+
+// Starved tells whether a run ends because it enters too many blocks: another step would not help.
+func Starved(s api.Source, m api.Module, f int, args []int, steps int) bool {
+	events, o := Whole(s, m, f, args, steps)
+	more, _ := Whole(s, m, f, args, steps+1)
+	return o.Err == api.ErrFuel && len(events) == len(more)
+}
+
+// expectBeginning checks that the run of a second module begins like that of the first one, whose events and outcome are given.
+func expectBeginning(t Tester, s api.Source, m, other api.Module, f int, args []int, steps int, like func(got, want []api.Event) bool, events []api.Event, o api.Outcome) {
+	t.Helper()
 	got, end := Whole(s, other, f, args, steps)
 	if len(got) < len(events) || len(end.Output) < len(o.Output) || !slices.Equal(end.Output[:len(o.Output)], o.Output) {
 		t.Fatal("S1, S2: the outputs or the numbers of events differ: " + described(f, args, steps, m, other))
@@ -88,7 +113,38 @@ func ExpectFewer(t Tester, s api.Source, m, other api.Module, f int, args []int,
 	if !like(got[:len(events)], events) {
 		t.Fatal("S3: the events differ: " + described(f, args, steps, m, other))
 	}
-	return o
+}
+
+// ExpectKnown checks that what is known in an event is known in another one, and returns how many words are. It ends with the first frame whose position is not known, because there may be several instead.
+func ExpectKnown(t Tester, e, got api.Event) int {
+	t.Helper()
+	words := 0
+	for i, f := range e.Frames {
+		if f.Stmt < 0 {
+			break
+		}
+		if len(got.Frames) <= i || got.Frames[i].Func != f.Func || got.Frames[i].Stmt != f.Stmt || len(got.Frames[i].Vars) != len(f.Vars) {
+			t.Fatal("S2: the frame " + strconv.Itoa(i) + " is another one")
+		}
+		for j, v := range f.Vars {
+			words += expectKnownWords(t, v, got.Frames[i].Vars[j])
+		}
+	}
+	return words
+}
+
+func expectKnownWords(t Tester, v, got api.Shown) int {
+	t.Helper()
+	words := 0
+	for w, known := range v.Known {
+		if known && (!got.Known[w] || got.Words[w] != v.Words[w]) {
+			t.Fatal("S3: the word " + strconv.Itoa(w) + " of the variable " + strconv.Itoa(v.Var) + " is not known any more, or another one")
+		}
+		if known {
+			words++
+		}
+	}
+	return words
 }
 
 // ExpectInterpreted checks that a function of a program's module has the outcome and the first events of the interpreter, with all words.

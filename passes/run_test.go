@@ -116,6 +116,81 @@ func TestExpectFewer(t *testing.T) {
 	expectTold(t, "another value", func(t Tester) { ExpectFewer(t, s, m, other, 0, []int{1}, 10, EqualEvents) }, "S1, S2: ")
 }
 
+// circling prints its argument and then enters blocks for ever.
+const circling = "(1) bind 0 to v0; mark 0; print v0; jump 1()\n(0) jump 1()"
+
+func TestStarved(t *testing.T) {
+	s, m := one(t, circling)
+	_, count := one(t, counting)
+	for _, c := range []struct {
+		module      api.Module
+		steps, from int
+		want        bool
+	}{{m, 0, 1, false}, {m, 1, 1, true}, {m, 9, 1, true}, {count, 3, 4, false}, {count, 4, 4, false}} {
+		if got := Starved(s, c.module, 0, []int{c.from}, c.steps); got != c.want {
+			t.Errorf("a run from %d with %d steps enters too many blocks: %v", c.from, c.steps, got)
+		}
+	}
+}
+
+func TestExpectFurther(t *testing.T) {
+	s, m := one(t, circling)
+	for about, c := range map[string]struct {
+		text string
+		want []string
+	}{
+		"the same":           {circling, nil},
+		"fewer blocks":       {"(1) bind 0 to v0; mark 0; print v0; print v0; mark 1; return v0", nil},
+		"too few events":     {"(1) print v0; return v0", []string{"S1, S2: "}},
+		"too little printed": {"(1) bind 0 to v0; mark 0; return v0", []string{"S1, S2: "}},
+		"something else":     {"(1) bind 0 to v0; mark 0; v1 = 8; print v1; return v0", []string{"S1, S2: "}},
+		"another word":       {"(1) bind 0 to v0 + 1; mark 0; print v0; return v0", []string{"S3: "}},
+	} {
+		_, other := one(t, c.text)
+		expectTold(t, about, func(t Tester) {
+			if o := ExpectFurther(t, s, m, other, 0, []int{1}, 50, EqualEvents); o.Err != api.ErrFuel {
+				t.Error("another outcome")
+			}
+		}, c.want...)
+	}
+	s, m = one(t, counting)
+	_, other := one(t, "(1) bind 0 to v0; mark 0; print v0; return v0")
+	for _, steps := range []int{2, 10} {
+		expectTold(t, "not too many blocks", func(t Tester) { ExpectFurther(t, s, m, m, 0, []int{3}, steps, EqualEvents) })
+		expectTold(t, "another value", func(t Tester) { ExpectFurther(t, s, m, other, 0, []int{3}, steps, EqualEvents) }, "S1, S2: ")
+	}
+}
+
+func TestExpectKnown(t *testing.T) {
+	v := func(known bool, word int) api.Shown {
+		return api.Shown{Known: []bool{true, known}, Words: []int{7, word}}
+	}
+	frame := func(f, stmt int, vars ...api.Shown) api.Frame { return api.Frame{Func: f, Stmt: stmt, Vars: vars} }
+	for about, c := range map[string]struct {
+		want, got []api.Frame
+		words     int
+		told      []string
+	}{
+		"the same":              {[]api.Frame{frame(1, 2, v(true, 5), v(true, 6))}, []api.Frame{frame(1, 2, v(true, 5), v(true, 6))}, 4, nil},
+		"more is known":         {[]api.Frame{frame(1, 2, v(false, 0))}, []api.Frame{frame(1, 2, v(true, 5))}, 1, nil},
+		"less is known":         {[]api.Frame{frame(1, 2, v(true, 0))}, []api.Frame{frame(1, 2, v(false, 0))}, 0, []string{"S3: "}},
+		"another word":          {[]api.Frame{frame(1, 2, v(true, 5))}, []api.Frame{frame(1, 2, v(true, 6))}, 0, []string{"S3: "}},
+		"another statement":     {[]api.Frame{frame(1, 2)}, []api.Frame{frame(1, 3)}, 0, []string{"S2: "}},
+		"another function":      {[]api.Frame{frame(1, 2)}, []api.Frame{frame(2, 2)}, 0, []string{"S2: "}},
+		"another variable":      {[]api.Frame{frame(1, 2)}, []api.Frame{frame(1, 2, v(true, 5))}, 0, []string{"S2: "}},
+		"a frame less":          {[]api.Frame{frame(1, 2), frame(0, 1)}, []api.Frame{frame(1, 2)}, 0, []string{"S2: "}},
+		"behind nothing known":  {[]api.Frame{frame(1, 2, v(true, 5)), frame(0, -1), frame(3, 1)}, []api.Frame{frame(1, 2, v(true, 5)), frame(0, 4)}, 2, nil},
+		"a position gets known": {[]api.Frame{frame(1, -1)}, []api.Frame{frame(1, 2, v(true, 5))}, 0, nil},
+		"a position is not now": {[]api.Frame{frame(1, 2)}, []api.Frame{frame(1, -1)}, 0, []string{"S2: "}},
+	} {
+		expectTold(t, about, func(t Tester) {
+			if words := ExpectKnown(t, api.Event{Frames: c.want}, api.Event{Frames: c.got}); words != c.words {
+				t.Error(words, " words")
+			}
+		}, c.told...)
+	}
+}
+
 func TestProgram(t *testing.T) {
 	r := rand.New(rand.NewPCG(9, 2))
 	for range 50 {

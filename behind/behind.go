@@ -1,4 +1,5 @@
-package merge
+// Package behind puts the code of a block behind that of another one.
+package behind
 
 import (
 	"iter"
@@ -10,17 +11,20 @@ import (
 // lastValue is the greatest number that a value may have.
 const lastValue = 9999
 
-// edges goes through the edges that lead from blocks to blocks; they may be changed.
-func edges(blocks []api.Block) iter.Seq[*api.Edge] {
-	return func(yield func(*api.Edge) bool) {
-		for i := range blocks {
-			for e := range operation.Edges(&blocks[i].Term) {
-				if !yield(e) {
-					return
-				}
-			}
-		}
+// Fits tells whether the values of a block t have numbers left behind those of b.
+func Fits(b, t api.Block) bool {
+	next := free(b)
+	for range defined(t) {
+		next++
 	}
+	return next-1 <= lastValue
+}
+
+// Add puts the operations of the block t, whose parameters are args, behind those of b, and gives b its terminator. The block t is used up.
+func Add(b *api.Block, t api.Block, args []int) {
+	rename(&t, names(t, args, free(*b)))
+	b.Ops = append(b.Ops, t.Ops...)
+	b.Term = t.Term
 }
 
 // defined goes through the numbers of the values that the operations of a block define.
@@ -41,22 +45,6 @@ func free(b api.Block) int {
 		next = max(next, v+1)
 	}
 	return next
-}
-
-// fits tells whether the values of a block t have numbers left behind those of b.
-func fits(b, t api.Block) bool {
-	next := free(b)
-	for range defined(t) {
-		next++
-	}
-	return next-1 <= lastValue
-}
-
-// add puts the operations of the block t, whose parameters are args, behind those of b, and gives b its terminator. The block t is used up.
-func add(b *api.Block, t api.Block, args []int) {
-	rename(&t, names(t, args, free(*b)))
-	b.Ops = append(b.Ops, t.Ops...)
-	b.Term = t.Term
 }
 
 // names returns the new number of each value of a block: its parameters are args, and the others are numbered from next on.
