@@ -14,9 +14,9 @@ func TestLimits(t *testing.T) {
 	if last := ops[len(ops)-1]; len(ops) < 4000 || last.A != 0 {
 		t.Errorf("P8.2: the last of %d copies is %+v", len(ops), last)
 	}
-	for i, b := range got.Blocks[6:] {
+	for i, b := range got.Blocks[8:] {
 		if b.Ops[1].N != 25 || b.Term.A != 0 {
-			t.Fatalf("P8.2: block %d is %+v", i+6, b)
+			t.Fatalf("P8.2: block %d is %+v", i+8, b)
 		}
 	}
 }

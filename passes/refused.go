@@ -14,6 +14,8 @@ const Sound = `object 0 0 2
 (1) v1 = 5; v2 = v1 * v1; v3 = copy v0; return v3
 (1) branch v0 4(v0) 5(v0)
 (1) jump 4(v0)
+(1) call 0(v0 v0) 7()
+(1) at 3; return v0
 `
 
 // Large returns the code of Sound with so many blocks, contexts, objects and operations. Block 3 of Sound is repeated, and copies are put behind the operations of block 0.
@@ -108,7 +110,7 @@ func wrong() map[string]func(*api.Code) {
 		"a Bind of an unknown kind":     func(c *api.Code) { c.Blocks[0].Ops[3].Src.Kind = 4 },
 		"a Bind in an unknown context":  func(c *api.Code) { c.Blocks[0].Ops[3].Ctx = 1 },
 		"an edge to the first block":    func(c *api.Code) { c.Blocks[0].Term.To[0] = api.Edge{Args: []int{0, 1}} },
-		"an edge to no block":           func(c *api.Code) { c.Blocks[0].Term.To[1].Block = 6 },
+		"an edge to no block":           func(c *api.Code) { c.Blocks[0].Term.To[1].Block = 8 },
 		"an edge with more arguments":   func(c *api.Code) { c.Blocks[0].Term.To[1].Args = []int{0, 1, 0} },
 		"a jump with less arguments":    func(c *api.Code) { c.Blocks[1].Term.To[0].Args = nil },
 		"a jump with an unknown value":  func(c *api.Code) { c.Blocks[1].Term.To[0].Args = []int{4} },

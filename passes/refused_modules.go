@@ -14,6 +14,11 @@ func ExpectRefusedModules(t Tester, promise string, pass ModulePass, m api.Modul
 		other := duplicate.Module(m)
 		c := Parse(t, Sound)
 		c.Contexts[0].Func = last
+		for i := range c.Blocks {
+			if end := &c.Blocks[i].Term; end.Kind == api.TermCall {
+				end.N = last
+			}
+		}
 		other.Funcs = append(other.Funcs, c)
 		change(&other, &other.Funcs[last])
 		return other
