@@ -11,16 +11,18 @@ import (
 const (
 	mostFuncs    = 4
 	mostBlocks   = 7
-	mostOps      = 12 // of a block
-	mostParams   = 3
 	mostVars     = 5
 	mostObjects  = 3
 	mostContexts = 4
 	lastStmt     = 9
 )
 
+// size is how large blocks are: how many operations and parameters one has at most, and how many of its values are late ones, which are mostly used.
+type size struct{ ops, params, late int }
+
 // writer writes a module.
 type writer struct {
+	size
 	choose func(n int) int
 	module api.Module
 	code   *api.Code // the function that is written
@@ -31,11 +33,20 @@ type writer struct {
 
 // Module returns a module that ir.Check accepts, and a source that has variables for it. What they are depends on what choose chooses: a number from 0 to n - 1.
 func Module(choose func(n int) int) (api.Source, api.Module) {
-	w := &writer{choose: choose}
+	return module(choose, size{ops: 12, params: 3, late: 4})
+}
+
+// Wide returns the same with blocks that may have more values at a time than there are registers.
+func Wide(choose func(n int) int) (api.Source, api.Module) {
+	return module(choose, size{ops: 70, params: 14, late: 24})
+}
+
+func module(choose func(n int) int, most size) (api.Source, api.Module) {
+	w := &writer{size: most, choose: choose}
 	s := api.Source{}
 	w.module.Funcs = make([]api.Code, 1+choose(mostFuncs))
 	for f := range w.module.Funcs {
-		w.module.Funcs[f].Params = choose(mostParams + 1)
+		w.module.Funcs[f].Params = choose(min(w.params, api.MaxParams) + 1)
 		s.Vars = append(s.Vars, w.vars())
 	}
 	for f := range w.module.Funcs {
@@ -69,7 +80,7 @@ func (w *writer) function(f int) {
 	}
 	c.Blocks = []api.Block{{Params: c.Params}}
 	for range w.choose(mostBlocks) {
-		c.Blocks = append(c.Blocks, api.Block{Params: w.choose(mostParams + 1)})
+		c.Blocks = append(c.Blocks, api.Block{Params: w.choose(w.params + 1)})
 	}
 	for b := range c.Blocks {
 		w.block(b)
@@ -94,7 +105,7 @@ func (w *writer) block(number int) {
 		w.returning(b)
 		return
 	}
-	for range w.choose(mostOps) {
+	for range w.choose(w.ops) {
 		b.Ops = append(b.Ops, w.operation())
 	}
 	if len(w.values) == 0 {

@@ -9,13 +9,39 @@ import (
 	"debugger/ir"
 )
 
-func TestModule(t *testing.T) {
+func TestModule(t *testing.T) { expectModules(t, Module) }
+
+func TestWide(t *testing.T) {
+	expectModules(t, Wide)
+	r := rand.New(rand.NewPCG(3, 2))
+	params, ops := 0, 0
+	for range 200 {
+		_, m := Wide(r.IntN)
+		for _, c := range m.Funcs {
+			for _, b := range c.Blocks {
+				if b.Params > api.InRegs {
+					params++
+				}
+				if len(b.Ops) > 40 {
+					ops++
+				}
+			}
+		}
+	}
+	if min(params, ops) < 200 {
+		t.Errorf("only %d blocks have many parameters, and %d many operations", params, ops)
+	}
+}
+
+// expectModules checks that modules are sound and varied, and always the same for the same choices.
+func expectModules(t *testing.T, module func(choose func(n int) int) (api.Source, api.Module)) {
+	t.Helper()
 	r, again := rand.New(rand.NewPCG(3, 1)), rand.New(rand.NewPCG(3, 1))
 	ops, terms, sources := map[int]int{}, map[int]int{}, map[int]int{}
 	outcomes, all := map[string]int{}, 0
 	for range 2000 {
-		s, m := Module(r.IntN)
-		if _, other := Module(again.IntN); fmt.Sprint(other) != fmt.Sprint(m) {
+		s, m := module(r.IntN)
+		if _, other := module(again.IntN); fmt.Sprint(other) != fmt.Sprint(m) {
 			t.Fatalf("the same choices lead to %v and %v", m, other)
 		}
 		if e := ir.Check(m); e != api.OK {
@@ -53,7 +79,7 @@ func TestModule(t *testing.T) {
 		}
 	}
 	for _, kind := range []string{"0 false", "0 true", fmt.Sprint(int(api.ErrFuel), " false"), fmt.Sprint(int(api.ErrLimit), " false")} {
-		if outcomes[kind] < 50 {
+		if outcomes[kind] < 40 {
 			t.Errorf("only %d runs have the outcome %s", outcomes[kind], kind)
 		}
 	}

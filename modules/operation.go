@@ -9,8 +9,8 @@ const (
 
 // value returns one that the block has, mostly a late one.
 func (w *writer) value() int {
-	if len(w.values) > 4 && w.choose(3) > 0 {
-		return pick(w, w.values[len(w.values)-4:]...)
+	if len(w.values) > w.late && w.choose(3) > 0 {
+		return pick(w, w.values[len(w.values)-w.late:]...)
 	}
 	return pick(w, w.values...)
 }

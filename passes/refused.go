@@ -1,6 +1,8 @@
 package passes
 
 import (
+	"iter"
+
 	"debugger/api"
 	"debugger/duplicate"
 	"debugger/ir"
@@ -54,25 +56,37 @@ func ExpectRefused(t Tester, promise string, pass Pass) {
 			t.Fatal(promise + ": the pass does nothing with " + shown(c))
 		}
 	}
-	for about, change := range wrong() {
-		c := Parse(t, Sound)
-		change(&c)
-		refuse(t, promise, pass, about, c, api.ErrForm)
+	for about, c := range Refused(t) {
+		expectKept(t, promise, Each(pass), about, api.Module{Funcs: []api.Code{c}})
 	}
-	refuse(t, promise, pass, "nothing", api.Code{}, api.ErrForm)
-	refuse(t, promise, pass, "more blocks", Large(t, api.MaxBlocks+1, 1, 1, 0), api.ErrLimit)
-	refuse(t, promise, pass, "more contexts", Large(t, 4, 65, 1, 0), api.ErrLimit)
-	refuse(t, promise, pass, "more objects", Large(t, 4, 3, 65, 0), api.ErrLimit)
-	refuse(t, promise, pass, "more operations", Large(t, 4, 1, 1, api.MaxOps+1), api.ErrLimit)
 }
 
-// refuse checks that a pass returns a code as it is because ir.CheckCode has an error for it.
-func refuse(t Tester, promise string, pass Pass, about string, c api.Code, want api.Errno) {
+// Refused goes through codes that ir.CheckCode refuses, with what is wrong with them.
+func Refused(t Tester) iter.Seq2[string, api.Code] {
+	return func(yield func(string, api.Code) bool) {
+		t.Helper()
+		for about, change := range wrong() {
+			c := Parse(t, Sound)
+			change(&c)
+			if !yield(about, refused(t, about, c, api.ErrForm)) {
+				return
+			}
+		}
+		_ = yield("nothing", refused(t, "nothing", api.Code{}, api.ErrForm)) &&
+			yield("more blocks", refused(t, "more blocks", Large(t, api.MaxBlocks+1, 1, 1, 0), api.ErrLimit)) &&
+			yield("more contexts", refused(t, "more contexts", Large(t, 4, 65, 1, 0), api.ErrLimit)) &&
+			yield("more objects", refused(t, "more objects", Large(t, 4, 3, 65, 0), api.ErrLimit)) &&
+			yield("more operations", refused(t, "more operations", Large(t, 4, 1, 1, api.MaxOps+1), api.ErrLimit))
+	}
+}
+
+// refused returns a code for which ir.CheckCode has an error.
+func refused(t Tester, about string, c api.Code, want api.Errno) api.Code {
 	t.Helper()
 	if e := ir.CheckCode(c); e != want {
-		t.Fatal(promise + ": " + about + ": the error is " + number(e))
+		t.Fatal(about + ": the error is " + number(e))
 	}
-	expectKept(t, promise, Each(pass), about, api.Module{Funcs: []api.Code{c}})
+	return c
 }
 
 // expectKept checks that a pass returns a module as it is.
